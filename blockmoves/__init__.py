@@ -1,0 +1,1 @@
+"""Blockmoves: code that moves blocks of memory, decided for all sizes."""
