@@ -169,6 +169,11 @@ def check_condition(value):
         raise NotACondition(value)
 
 
+def is_condition_on(value, symbols):
+    """Whether any value is a condition with none but these symbols."""
+    return isinstance(value, Condition) and all([symbol in symbols for symbol in value.symbols])
+
+
 def read_condition(text):
     """The condition with this text."""
     condition = _condition_in_text(text, MAX_DEPTH) if isinstance(text, str) else None

@@ -21,6 +21,17 @@ def is_name(value):
     return value[0] in _LETTERS and all([sign in _SIGNS for sign in value])
 
 
+def is_new_name(value, names):
+    """Whether any value is a name that is none of these."""
+    return is_name(value) and value not in names
+
+
+def check_name(value):
+    """Raises InvalidName if the value is no name."""
+    if not is_name(value):
+        raise InvalidName(value)
+
+
 def is_symbol(value):
     """Whether any value is a symbol."""
     return is_name(value) or (isinstance(value, str) and value == "@")
@@ -127,6 +138,20 @@ def check_form(value):
         raise NotAForm(value)
 
 
+def is_form_on(value, symbols):
+    """Whether any value is a form with none but these symbols."""
+    return isinstance(value, Form) and all([symbol in symbols for symbol in value.symbols])
+
+
+def put_in(form, table):
+    """The form with the forms of a dict in the place of its symbols."""
+    factors = {}
+    for symbol, many in form.terms:
+        for own, factor in table[symbol].terms:
+            factors[own] = factors.get(own, 0) + many * factor
+    return form_of(factors)
+
+
 def worth_of(form, table):
     """The value of the form, where a dict has the values of its symbols."""
     return sum([factor * table[symbol] for symbol, factor in form.terms])
@@ -160,6 +185,14 @@ def form_in_text(text):
     return form_of(factors)
 
 
+def number_in_text(digits):
+    """The integer, or None if it is none, or one with more digits than Python reads."""
+    try:
+        return int(digits)
+    except ValueError:
+        return None
+
+
 def _term_in_text(word):
     """The symbol and the factor of a term; None as the symbol if it is no term."""
     sign = 1
@@ -167,18 +200,10 @@ def _term_in_text(word):
         sign = -1
         word = word[1:]
     digits, star, symbol = word.rpartition("*")
-    number = _number_in_text(digits) if star else 1
+    number = number_in_text(digits) if star else 1
     if number is None or not is_symbol(symbol):
         return None, 0
     return symbol, sign * number
-
-
-def _number_in_text(digits):
-    """The integer, or None if it is none, or one with more digits than Python reads."""
-    try:
-        return int(digits)
-    except ValueError:
-        return None
 
 
 def _terms_of(factors):

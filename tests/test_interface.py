@@ -1,7 +1,7 @@
 import inspect
 import unittest
 
-from blockmoves import conditions, forms
+from blockmoves import catalog, cones, conditions, containers, forms, operations, statements
 
 
 class ExamplesTest(unittest.TestCase):
@@ -32,6 +32,10 @@ class PlacesTest(unittest.TestCase):
         for module, name, parameters in [
             (forms, "is_name", ["value"]), (forms, "is_symbol", ["value"]), (forms, "is_values", ["value"]),
             (conditions, "read_condition", ["text"]),
+            (cones, "find_values", ["facts"]), (cones, "refute", ["facts"]), (cones, "refutes", ["facts", "multipliers"]),
+            (containers, "is_sound", ["container"]), (containers, "find_unsound", ["container"]),
+            (catalog, "ring", []), (catalog, "ring_push", []), (catalog, "ring_pop", []), (catalog, "ring_turn", []),
+            (catalog, "stack", []), (catalog, "stack_push", []), (catalog, "stack_drop", []),
         ]:
             function = getattr(module, name)
             self.assertEqual(function.__module__, module.__name__)
@@ -52,6 +56,24 @@ class PlacesTest(unittest.TestCase):
             (conditions, "Not", {"__init__": ["self", "condition"]}),
             (conditions, "All", {"__init__": ["self", "conditions"]}),
             (conditions, "Any", {"__init__": ["self", "conditions"]}),
+            (statements, "Statement", {"__eq__": None, "__str__": None, "__repr__": None}),
+            (statements, "Let", {"__init__": ["self", "field", "form"]}),
+            (statements, "Copy", {"__init__": ["self", "target", "to", "source", "start", "amount"]}),
+            (statements, "Up", {"__init__": ["self", "target", "to", "source", "start", "amount"]}),
+            (statements, "Down", {"__init__": ["self", "target", "to", "source", "start", "amount"]}),
+            (statements, "Apart", {"__init__": ["self", "target", "to", "source", "start", "amount"]}),
+            (statements, "Reverse", {"__init__": ["self", "array", "start", "amount"]}),
+            (statements, "Swap", {"__init__": ["self", "first", "at", "second", "start", "amount"]}),
+            (statements, "Fill", {"__init__": ["self", "array", "start", "amount", "letter"]}),
+            (statements, "Resize", {"__init__": ["self", "array", "length"]}),
+            (statements, "If", {"__init__": ["self", "condition", "then", "otherwise"]}),
+            (containers, "Container", {
+                "__init__": ["self", "arrays", "fields", "parameters", "premise", "begin", "invariant", "cases"],
+                "read": ["text"], "__eq__": None, "__str__": None, "__repr__": None}),
+            (operations, "Operation", {
+                "__init__": ["self", "container", "name", "sizes", "inputs", "outputs", "premise", "body", "view", "results"],
+                "read": ["container", "text"], "statement": ["self", "place"], "__eq__": None, "__str__": None,
+                "__repr__": None}),
         ]:
             kind = getattr(module, name)
             self.assertEqual(kind.__module__, module.__name__)
@@ -61,12 +83,22 @@ class PlacesTest(unittest.TestCase):
                     self.assertEqual(list(inspect.signature(getattr(kind, method)).parameters), parameters)
 
     def test_static_and_generator(self):
-        self.assertIsInstance(vars(forms.Form)["read"], staticmethod)
+        for kind in (forms.Form, containers.Container, operations.Operation):
+            self.assertIsInstance(vars(kind)["read"], staticmethod)
         self.assertTrue(inspect.isgeneratorfunction(conditions.Condition.ways))
 
     def test_bases(self):
         for name in ("Below", "Upto", "Same", "Not", "All", "Any"):
             self.assertEqual(getattr(conditions, name).__bases__, (conditions.Condition,))
+        for name in ("Let", "Copy", "Reverse", "Swap", "Fill", "Resize", "If"):
+            self.assertEqual(getattr(statements, name).__bases__, (statements.Statement,))
+        for name in ("Up", "Down", "Apart"):
+            self.assertEqual(getattr(statements, name).__bases__, (statements.Copy,))
+
+    def test_named_alone(self):
+        parameters = inspect.signature(operations.Operation).parameters
+        named = [name for name, one in parameters.items() if one.kind is one.KEYWORD_ONLY]
+        self.assertEqual(named, ["sizes", "inputs", "outputs", "premise", "body", "view", "results"])
 
 
 if __name__ == "__main__":

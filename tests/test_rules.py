@@ -130,6 +130,95 @@ class RulesTest(unittest.TestCase):
             if any(isinstance(inner, (ast.Yield, ast.YieldFrom)) for inner in ast.walk(node)):
                 self.assertEqual(names.count(node.name), 1, node.name)
 
+    def test_local_names(self):
+        # No parameter and no variable has the name of a class, an import or a function of its file.
+        for name, tree in TREES.items():
+            taken = {alias.name for row in tree.body if isinstance(row, ast.ImportFrom) for alias in row.names}
+            taken |= {row.name for row in tree.body if isinstance(row, (ast.ClassDef, ast.FunctionDef))}
+            for node in ast.walk(tree):
+                if isinstance(node, ast.arg):
+                    self.assertNotIn(node.arg, taken, name)
+                if isinstance(node, ast.Name) and isinstance(node.ctx, ast.Store):
+                    self.assertNotIn(node.id, taken, name)
+
+    def test_one_binding(self):
+        for name, tree in TREES.items():
+            bound = [alias.name for row in tree.body if isinstance(row, ast.ImportFrom) for alias in row.names]
+            bound += [row.name for row in tree.body if isinstance(row, (ast.ClassDef, ast.FunctionDef))]
+            bound += [target.id for row in tree.body if isinstance(row, ast.Assign) for target in row.targets]
+            self.assertEqual(sorted(set(bound)), sorted(bound), name)
+            used = {node.id for node in ast.walk(tree) if isinstance(node, ast.Name)}
+            for row in tree.body:
+                if isinstance(row, ast.ImportFrom):
+                    for alias in row.names:
+                        self.assertIn(alias.name, used, f"{name}: {alias.name} is imported in vain")
+
+    def test_attributes_and_methods(self):
+        methods, attributes, statics = set(), set(), set()
+        for _, node in nodes(ast.ClassDef):
+            for row in node.body:
+                if isinstance(row, ast.FunctionDef):
+                    methods.add(row.name)
+                    if row.decorator_list:
+                        statics.add(row.name)
+        for _, node in nodes(ast.Attribute):
+            if isinstance(node.ctx, ast.Store):
+                attributes.add(node.attr)
+        plain = {name for kind in (str, int, list, dict, set, bytes, tuple) for name in dir(kind)}
+        values = {target.id for _, node in nodes(ast.ClassDef) for row in node.body if isinstance(row, ast.Assign)
+                  for target in row.targets}
+        free = set("count index title find get join lower upper split strip copy add".split())
+        self.assertEqual(attributes & plain - free, set())
+        self.assertEqual({name for name in methods if not name.startswith("__")} & plain, set())
+        self.assertEqual(attributes & methods, set())
+        self.assertEqual(values & (attributes | methods), set())
+        for name, node in nodes(ast.Attribute):
+            self.assertIn(node.attr, attributes | methods | values | plain, f"{name}: {node.attr}")
+
+    def test_no_method_off_a_class(self):
+        classes = {node.name for _, node in nodes(ast.ClassDef)}
+        for name, node in nodes(ast.Attribute):
+            if isinstance(node.value, ast.Name) and node.value.id in classes:
+                self.assertTrue(node.attr.isupper(), f"{name}: {node.attr}")
+
+    def test_classes_are_not_values(self):
+        classes = {node.name for _, node in nodes(ast.ClassDef)}
+        for name, tree in TREES.items():
+            allowed = set()
+            for node in ast.walk(tree):
+                if isinstance(node, ast.Call):
+                    allowed.add(id(node.func))
+                    if isinstance(node.func, ast.Name) and node.func.id == "isinstance":
+                        allowed.add(id(node.args[1]))
+                        allowed.update(id(one) for one in getattr(node.args[1], "elts", []))
+                if isinstance(node, ast.ClassDef):
+                    allowed.update(id(base) for base in node.bases)
+                if isinstance(node, ast.Attribute):
+                    allowed.add(id(node.value))
+                if isinstance(node, ast.Raise):
+                    self.assertIsInstance(node.exc, ast.Call, name)
+                if isinstance(node, ast.ExceptHandler):
+                    allowed.update(id(one) for one in ast.walk(node.type))
+            for node in ast.walk(tree):
+                if isinstance(node, ast.Name) and node.id in classes:
+                    self.assertIn(id(node), allowed, f"{name}:{node.lineno} {node.id}")
+
+    def test_sets(self):
+        # A set stands after `in`, in sorted or len, or is a variable that its function assigns once.
+        for name, tree in TREES.items():
+            allowed = set()
+            for node in ast.walk(tree):
+                if isinstance(node, ast.Call) and isinstance(node.func, ast.Name) and node.func.id in ("sorted", "len"):
+                    allowed.update(id(one) for one in node.args)
+                if isinstance(node, ast.Compare):
+                    allowed.update(id(one) for one in node.comparators)
+                if isinstance(node, ast.Assign) and isinstance(node.targets[0], ast.Name):
+                    allowed.add(id(node.value))
+            for node in ast.walk(tree):
+                called = isinstance(node, ast.Call) and isinstance(node.func, ast.Name) and node.func.id == "set"
+                if called or isinstance(node, (ast.Set, ast.SetComp)):
+                    self.assertIn(id(node), allowed, f"{name}:{node.lineno}")
+
     def test_handlers(self):
         allowed = {"KeyError", "ZeroDivisionError", "StopIteration", "ValueError", "LookupError", "IndexError"}
         own = {node.name for _, node in nodes(ast.ClassDef)}

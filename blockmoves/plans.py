@@ -1,0 +1,103 @@
+"""Tuples of facts put together from the ways of conditions, step by step.
+
+A *plan* is a list of steps, and a step a list of ways, one of which is taken.
+A table has the present form of each symbol, and lengths the present length of
+each array.
+"""
+
+from blockmoves.conditions import All, Upto
+from blockmoves.corners import Corner
+from blockmoves.forms import Form, form_of, put_in
+
+
+class Path:
+    """The facts of the ways that were taken so far.
+
+    With a corner, a path ends where its facts have no values. Without one
+    nobody asks whether they have any.
+    """
+
+    def __init__(self, facts, corner):
+        self.facts = facts
+        self.corner = corner
+
+    def onward(self, ways):
+        """The paths that go on by one of the ways."""
+        if self.corner is None:
+            return [Path(self.facts + way, None) for way in ways]
+        paths = [Path(self.facts + way, self.corner.joined(way)) for way in ways]
+        return [path for path in paths if path.corner.refutation is None]
+
+
+def open_path():
+    """The path without facts, on which nobody asks for values."""
+    return Path((), None)
+
+
+def searching_path(symbols):
+    """The path without facts that looks for values of these symbols."""
+    return Path((), Corner(symbols))
+
+
+def paths_along(paths, plan):
+    """The paths that go on from these ones by one way of each step."""
+    for ways in plan:
+        paths = [path for before in paths for path in before.onward(ways)]
+    return paths
+
+
+def own_table(symbols):
+    """The table in which each symbol has itself as its form."""
+    return {symbol: form_of({symbol: 1}) for symbol in symbols}
+
+
+def ways_in(condition, truth, table):
+    """The true or false ways of the condition, with the forms of the table in the place of the symbols."""
+    return [_put_in_way(way, table) for way in condition.listing(truth)]
+
+
+def not_below_zero(forms):
+    """The way that says that none of the forms is below 0."""
+    return tuple([(form, False) for form in forms])
+
+
+def stretch_condition(first, last, length):
+    """The condition that a stretch or part lies in a list or array of this length."""
+    return All(Upto(Form(), first), Upto(first, last), Upto(last, length))
+
+
+def stretches_in(stretches, table):
+    """The stretches with the forms of the table in the place of the symbols."""
+    return [(array, put_in(first, table), put_in(last, table), turned) for array, first, last, turned in stretches]
+
+
+def case_plan(cases, chosen, table, lengths):
+    """The plan for the case to be the first with a true condition, and for its stretches to lie in their arrays."""
+    return _chosen_plan(cases, chosen, table) + [
+        stretch_condition(first, last, lengths[array]).listing(True)
+        for array, first, last, _ in stretches_in(cases[chosen][1], table)]
+
+
+def missing_plans(cases, table, lengths):
+    """The plans for all the ways in which a view is missing."""
+    plans = [[ways_in(condition, False, table) for condition, _ in cases]]
+    for chosen, (_, stretches) in enumerate(cases):
+        conditions = [stretch_condition(first, last, lengths[array])
+                      for array, first, last, _ in stretches_in(stretches, table)]
+        plans.extend([_chosen_plan(cases, chosen, table) + plan for plan in failing_plans(conditions)])
+    return plans
+
+
+def failing_plans(conditions):
+    """For each of the conditions the plan that it is the first one that fails."""
+    return [[condition.listing(True) for condition in conditions[:at]] + [failing.listing(False)]
+            for at, failing in enumerate(conditions)]
+
+
+def _chosen_plan(cases, chosen, table):
+    earlier = [ways_in(condition, False, table) for condition, _ in cases[:chosen]]
+    return earlier + [ways_in(cases[chosen][0], True, table)]
+
+
+def _put_in_way(way, table):
+    return tuple([(put_in(form, table), strict) for form, strict in way])
