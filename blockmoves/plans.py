@@ -73,7 +73,7 @@ def stretches_in(stretches, table):
 
 def case_plan(cases, chosen, table, lengths):
     """The plan for the case to be the first with a true condition, and for its stretches to lie in their arrays."""
-    return _chosen_plan(cases, chosen, table) + [
+    return chosen_plan(cases, chosen, table) + [
         stretch_condition(first, last, lengths[array]).listing(True)
         for array, first, last, _ in stretches_in(cases[chosen][1], table)]
 
@@ -84,7 +84,7 @@ def missing_plans(cases, table, lengths):
     for chosen, (_, stretches) in enumerate(cases):
         conditions = [stretch_condition(first, last, lengths[array])
                       for array, first, last, _ in stretches_in(stretches, table)]
-        plans.extend([_chosen_plan(cases, chosen, table) + plan for plan in failing_plans(conditions)])
+        plans.extend([chosen_plan(cases, chosen, table) + plan for plan in failing_plans(conditions)])
     return plans
 
 
@@ -94,7 +94,7 @@ def failing_plans(conditions):
             for at, failing in enumerate(conditions)]
 
 
-def _chosen_plan(cases, chosen, table):
+def chosen_plan(cases, chosen, table):
     earlier = [ways_in(condition, False, table) for condition, _ in cases[:chosen]]
     return earlier + [ways_in(cases[chosen][0], True, table)]
 

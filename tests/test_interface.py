@@ -1,7 +1,7 @@
 import inspect
 import unittest
 
-from blockmoves import catalog, cones, conditions, containers, forms, operations, statements
+from blockmoves import catalog, cones, conditions, containers, demands, forms, operations, runs, statements, stores
 
 
 class ExamplesTest(unittest.TestCase):
@@ -34,6 +34,13 @@ class PlacesTest(unittest.TestCase):
             (conditions, "read_condition", ["text"]),
             (cones, "find_values", ["facts"]), (cones, "refute", ["facts"]), (cones, "refutes", ["facts", "multipliers"]),
             (containers, "is_sound", ["container"]), (containers, "find_unsound", ["container"]),
+            (runs, "run", ["operation", "fields", "cells", "values", "inputs"]),
+            (runs, "view_of", ["container", "fields", "cells"]),
+            (runs, "promised", ["operation", "fields", "cells", "values", "inputs"]),
+            (runs, "is_allowed", ["operation", "fields", "values"]), (stores, "tried", ["store", "deed"]),
+            (demands, "demands_of", ["operation"]), (demands, "demands_of_both", ["first", "second", "by"]),
+            (demands, "demands_of_kept", ["operation", "condition"]), (demands, "demands_of_container", ["container"]),
+            (demands, "demands_of_bound", ["operation", "potential", "form", "fraction"]),
             (catalog, "ring", []), (catalog, "ring_push", []), (catalog, "ring_pop", []), (catalog, "ring_turn", []),
             (catalog, "stack", []), (catalog, "stack_push", []), (catalog, "stack_drop", []),
         ]:
@@ -67,6 +74,11 @@ class PlacesTest(unittest.TestCase):
             (statements, "Fill", {"__init__": ["self", "array", "start", "amount", "letter"]}),
             (statements, "Resize", {"__init__": ["self", "array", "length"]}),
             (statements, "If", {"__init__": ["self", "condition", "then", "otherwise"]}),
+            (stores, "Store", {
+                "__init__": ["self", "container", "values"], "do": ["self", "operation", "values", "inputs"],
+                "undo": ["self"], "cells": ["self", "array"], "shown": ["self"], "__len__": ["self"], "__repr__": ["self"],
+                "__eq__": None}),
+            (stores, "Trial", {"__init__": ["self", "store"], "__enter__": ["self"], "__exit__": None}),
             (containers, "Container", {
                 "__init__": ["self", "arrays", "fields", "parameters", "premise", "begin", "invariant", "cases"],
                 "read": ["text"], "__eq__": None, "__str__": None, "__repr__": None}),

@@ -1,0 +1,63 @@
+"""What the modules on demands ask of their arguments."""
+
+from blockmoves.conditions import All, check_condition, is_condition_on
+from blockmoves.errors import InvalidBy, InvalidFraction, InvalidPotential, NotACondition, NotAForm, NotComparable
+from blockmoves.forms import Form, check_form, is_form_on, is_integer
+from blockmoves.operations import check_operation
+
+_MOST_PAIRS = 3
+
+
+def check_two(first, second):
+    """Raises an error if these are not two operations that can be compared."""
+    check_operation(first)
+    check_operation(second)
+    if not first.container == second.container or first.sizes != second.sizes:
+        raise NotComparable()
+    if first.inputs != second.inputs or first.outputs != second.outputs:
+        raise NotComparable()
+
+
+def check_by(value):
+    """Raises InvalidBy if the value is neither "view" nor "cells"."""
+    if not isinstance(value, str) or value not in ("view", "cells"):
+        raise InvalidBy(value)
+
+
+def check_condition_of(container, value):
+    """Raises NotACondition if the value is no condition on the fields."""
+    check_condition(value)
+    if not is_condition_on(value, container.fields):
+        raise NotACondition(value)
+
+
+def potential_of(container, value):
+    """The potential that the value is, or stands for; InvalidPotential if it is none."""
+    if value is None:
+        return ((All(), Form()),)
+    if not isinstance(value, tuple) or not 1 <= len(value) <= _MOST_PAIRS:
+        raise InvalidPotential(value)
+    if not all([_is_pair_on(pair, container.fields) for pair in value]) or not value[-1][0] == All():
+        raise InvalidPotential(value)
+    return value
+
+
+def _is_pair_on(pair, fields):
+    if not isinstance(pair, tuple) or len(pair) != 2:
+        return False
+    return is_condition_on(pair[0], fields) and is_form_on(pair[1], fields)
+
+
+def check_measure(operation, value):
+    """Raises NotAForm if the value is no form on the unknowns without factors below 0."""
+    check_form(value)
+    if not is_form_on(value, operation.unknowns) or any([factor < 0 for _, factor in value.terms]):
+        raise NotAForm(value)
+
+
+def check_fraction(value):
+    """Raises InvalidFraction if the value is no pair of an integer from 0 on and one from 1 on."""
+    if not isinstance(value, tuple) or len(value) != 2:
+        raise InvalidFraction(value)
+    if not all([is_integer(number) for number in value]) or value[0] < 0 or value[1] < 1:
+        raise InvalidFraction(value)
