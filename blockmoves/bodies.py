@@ -22,7 +22,10 @@ class Unended:
 
 
 def statements_in(lines):
-    """The statements in the lines; raises InvalidText, or what their classes raise, if there are none."""
+    """The statements in the lines; raises InvalidText, or what their classes raise, if a line is none.
+
+    An If without its `end`, and an `end` without its If, are left out.
+    """
     opened = [Unended("")]
     for line in lines:
         word, _, rest = line.lstrip(" ").partition(" ")
@@ -32,13 +35,9 @@ def statements_in(lines):
             opened[-1].branches.append([])
         elif word != "end":
             opened[-1].branches[-1].append(_simple_in(word, rest))
-        elif len(opened) == 1:
-            raise InvalidText(line)
-        else:
+        elif len(opened) > 1:
             done = opened.pop()
             opened[-1].branches[-1].append(done.ended())
-    if len(opened) > 1:
-        raise InvalidText(opened[-1].text)
     return tuple(opened[0].branches[0])
 
 

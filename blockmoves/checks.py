@@ -1,8 +1,8 @@
 """What the modules on demands ask of their arguments."""
 
-from blockmoves.conditions import All, check_condition, is_condition_on
+from blockmoves.conditions import All, is_condition_on
 from blockmoves.errors import InvalidBy, InvalidFraction, InvalidPotential, NotACondition, NotAForm, NotComparable
-from blockmoves.forms import Form, check_form, is_form_on, is_integer
+from blockmoves.forms import Form, is_form_on, is_integer
 from blockmoves.operations import check_operation
 
 _MOST_PAIRS = 3
@@ -26,7 +26,6 @@ def check_by(value):
 
 def check_condition_of(container, value):
     """Raises NotACondition if the value is no condition on the fields."""
-    check_condition(value)
     if not is_condition_on(value, container.fields):
         raise NotACondition(value)
 
@@ -50,7 +49,6 @@ def _is_pair_on(pair, fields):
 
 def check_measure(operation, value):
     """Raises NotAForm if the value is no form on the unknowns without factors below 0."""
-    check_form(value)
     if not is_form_on(value, operation.unknowns) or any([factor < 0 for _, factor in value.terms]):
         raise NotAForm(value)
 

@@ -38,10 +38,7 @@ class Corner:
         corner.columns = self.columns
         corner.scale = self.scale
         corner.point = self.point
-        if self.refutation is None:
-            corner.settle()
-        else:
-            corner.refutation = self.refutation + tuple([0 for _ in facts])
+        corner.settle()
         return corner
 
     def settle(self):

@@ -192,6 +192,6 @@ def _differences(origin, other):
     other_name, other_place = other
     if name is None and other_name is None:
         return [] if place == other_place else [()]
-    if name is None or name != other_name or place.factor(MIDDLE) != other_place.factor(MIDDLE):
+    if name != other_name or place.factor(MIDDLE) != other_place.factor(MIDDLE):
         return [()]
     return [((place - other_place, True),), ((other_place - place, True),)]

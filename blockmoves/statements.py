@@ -269,8 +269,10 @@ def is_stopped(kind, comparisons):
 def condition_against(kind, comparisons):
     """The condition that there is no such stop, where the comparisons are between forms."""
     if kind in ("clobber", "overlap"):
-        return Not(All(*[Below(one, other) for one, other in comparisons]))
-    return All(*[Upto(one, other) for one, other in comparisons])
+        below = [Below(one, other) for one, other in comparisons]
+        return Not(All(*below))
+    inside = [Upto(one, other) for one, other in comparisons]
+    return All(*inside)
 
 
 def size_of(statements):

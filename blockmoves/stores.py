@@ -86,11 +86,6 @@ class Trial:
         if not isinstance(store, Store):
             raise NotAStore(store)
         self.store = store
-        self.fields = store.fields
-        self.rows = store.rows
-        self.cost = store.cost
-        self.history = store.history
-        self.past = store.past
 
     def __enter__(self):
         # The block begins only now, and the store may have changed since.

@@ -262,13 +262,15 @@ class TrialTest(unittest.TestCase):
     def test_begin_of_the_block(self):
         # The block begins behind the creation of the Trial.
         store = filled()
-        trial = Trial(store)
+        trial, first = Trial(store), shape(store)
         store.do(stack_push(), k(1), (5,))
         before = shape(store)
         with trial as same:
             same.undo()
             same.undo()
         self.assertEqual(shape(store), before)
+        store.undo()
+        self.assertEqual(shape(store), first)
 
     def test_empty_store(self):
         store = Store(stack(), N)
