@@ -5,7 +5,8 @@ from blockmoves.errors import InputError, InvalidArrays, InvalidBegin, InvalidCa
 from blockmoves.errors import InvalidInvariant, InvalidParameters, InvalidPremise, InvalidText, NotAContainer
 from blockmoves.forms import is_form_on, is_new_name
 from blockmoves.limits import MAX_ARRAYS, MAX_FIELDS
-from blockmoves.plans import missing_plans, not_below_zero, own_table, paths_along, searching_path, ways_in
+from blockmoves.paths import paths_along, search_path
+from blockmoves.plans import missing_plans, not_below_zero, own_table, ways_in
 from blockmoves.texts import condition_below, is_stretch_on, pair_in, rests_of, sections_of
 from blockmoves.texts import stretch_in_text, stretch_text
 
@@ -74,21 +75,31 @@ def is_sound(container):
 def find_unsound(container):
     """None if the container is sound, otherwise a pair ("start" or "view", values that show it)."""
     check_container(container)
-    paths = paths_along([searching_path(tuple(sorted(container.parameters)))], start_plan(container))
+    paths = start_paths(container, container.invariant)
     if paths:
-        return "start", paths[0].corner.answer()
+        return "start", paths[0].solution()
     for plan in viewless_plans(container):
-        paths = paths_along([searching_path(container.fields)], plan)
+        paths = paths_along([search_path(container.fields)], plan)
         if paths:
-            return "view", paths[0].corner.answer()
+            return "view", paths[0].solution()
     return None
 
 
-def start_plan(container):
-    """The plan for an allowed start that makes the invariant false."""
+def start_paths(container, condition):
+    """The paths to values of the parameters of allowed starts that make the condition false."""
+    return paths_along([search_path(tuple(sorted(container.parameters)))], start_plan(container, condition))
+
+
+def start_plan(container, condition):
+    """The plan for an allowed start that makes the condition on the fields false."""
     allowed = ways_in(container.premise, True, own_table(container.parameters))
     begun = [not_below_zero([form for _, form in container.begin])]
-    return [allowed, begun, ways_in(container.invariant, False, dict(container.begin))]
+    return [allowed, begun, ways_in(condition, False, dict(container.begin))]
+
+
+def unsound_plans(container):
+    """The plans for all that makes the container unsound."""
+    return [start_plan(container, container.invariant)] + viewless_plans(container)
 
 
 def viewless_plans(container):

@@ -38,16 +38,17 @@ class Corner:
         corner.columns = self.columns
         corner.scale = self.scale
         corner.point = self.point
-        corner.settle()
+        corner.settle(len(self.rows))
         return corner
 
-    def settle(self):
+    def settle(self, start):
         """Goes from corner to corner until all rows hold, or until one is refuted.
 
         It is always the first row that does not hold, and the first tight row
         that may give way to it, so that no corner is met again (Bland's rule).
+        The rows in front of `start` hold at the beginning.
         """
-        broken = self.first_broken()
+        broken = self.first_broken(start)
         while broken is not None:
             factors, _ = self.rows[broken]
             shares = [_product_of(factors, column) for column in self.columns]
@@ -56,11 +57,12 @@ class Corner:
                 self.refutation = self.multipliers(broken, shares)
                 return
             self.turn(broken, leaving, shares)
-            broken = self.first_broken()
+            broken = self.first_broken(0)
 
-    def first_broken(self):
-        """The first row that does not hold at the point; None if all hold."""
-        for at, (factors, strict) in enumerate(self.rows):
+    def first_broken(self, start):
+        """The first row from `start` on that does not hold at the point; None if all hold."""
+        for at in range(start, len(self.rows)):
+            factors, strict = self.rows[at]
             if _product_of(factors, self.point) < (self.scale if strict else 0):
                 return at
         return None

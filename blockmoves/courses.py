@@ -2,7 +2,8 @@
 
 from blockmoves.containers import lengths_in
 from blockmoves.forms import Form, put_in
-from blockmoves.plans import case_plan, not_below_zero, own_table, paths_along, ways_in
+from blockmoves.paths import paths_along
+from blockmoves.plans import case_plan, not_below_zero, own_table, ways_in
 from blockmoves.statements import If, Let, Resize, condition_against, size_of
 
 
@@ -60,14 +61,20 @@ class Walk:
 
 
 class Tour:
-    """All walks through the bodies of operations; `stopped` has a triple (place, kind, path) for each stop."""
+    """All walks through the body of an operation.
+
+    `stopped` has a triple (place, kind, path) for each stop, and `arrivals` a
+    pair (place, walk) for each statement that a walk comes to.
+    """
 
     def __init__(self):
         self.stopped = []
+        self.arrivals = []
 
     def through(self, statements, place, walks):
         """The walks behind the statements, the first of which stands at the place."""
         for statement in statements:
+            self.arrivals.extend([(place, walk) for walk in walks])
             if isinstance(statement, If):
                 walks = self.through_branches(statement, place, walks)
             else:
@@ -122,6 +129,13 @@ def first_course(operation):
 def whole_walks(operation, path):
     """The walks behind the body."""
     return Tour().through(operation.body, 0, beginnings(operation, [operation.premise], path))
+
+
+def arrivals_in(operation, path):
+    """The pairs (place, walk) for all statements that walks come to."""
+    tour = Tour()
+    tour.through(operation.body, 0, beginnings(operation, [operation.premise], path))
+    return tour.arrivals
 
 
 def _onward(walk, ways):

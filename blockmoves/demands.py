@@ -1,9 +1,9 @@
 """The demands of operations and containers (points 17, 20, 21, 22 and 24 of the document)."""
 
 from blockmoves.checks import check_by, check_condition_of, check_fraction, check_measure, check_two, potential_of
-from blockmoves.containers import check_container, start_plan, viewless_plans
+from blockmoves.containers import check_container, unsound_plans
 from blockmoves.operations import check_operation
-from blockmoves.plans import open_path, paths_along
+from blockmoves.paths import open_path, paths_along
 from blockmoves.troubles import breaking_paths, dear_paths, difference_paths, problem_paths
 
 
@@ -29,8 +29,7 @@ def demands_of_kept(operation, condition):
     check_operation(operation)
     check_condition_of(operation.container, condition)
     begun = open_path()
-    held = [condition]
-    for path in breaking_paths(operation, held, condition, begun):
+    for path in breaking_paths(operation, condition, begun):
         yield path.facts
 
 
@@ -48,6 +47,6 @@ def demands_of_bound(operation, potential, form, fraction):
 def demands_of_container(container):
     """Yields the facts that have no values if the container is sound."""
     check_container(container)
-    for plan in [start_plan(container)] + viewless_plans(container):
+    for plan in unsound_plans(container):
         for path in paths_along([open_path()], plan):
             yield path.facts

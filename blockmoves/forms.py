@@ -6,6 +6,9 @@ _LETTERS = "abcdefghijklmnopqrstuvwxyz"
 _SIGNS = "abcdefghijklmnopqrstuvwxyz0123456789"
 _LONGEST_NAME = 8
 
+# The symbol of the position of a cell.
+MIDDLE = "@"
+
 
 def is_integer(value):
     """Whether any value is an integer; True and False are none."""
@@ -34,7 +37,7 @@ def check_name(value):
 
 def is_symbol(value):
     """Whether any value is a symbol."""
-    return is_name(value) or (isinstance(value, str) and value == "@")
+    return is_name(value) or (isinstance(value, str) and value == MIDDLE)
 
 
 def is_values(value):
@@ -85,10 +88,7 @@ class Form:
     @staticmethod
     def read(text):
         """The form with this text."""
-        form = form_in_text(text) if isinstance(text, str) else None
-        if form is None or str(form) != text:
-            raise InvalidText(text)
-        return form
+        return read_form(text)
 
     def factor(self, symbol):
         """The factor of the symbol; 0 for any other value."""
@@ -130,6 +130,14 @@ class Form:
 
     def __repr__(self):
         return f"Form({str(self)})"
+
+
+def read_form(text):
+    """The form with this text."""
+    form = form_in_text(text) if isinstance(text, str) else None
+    if form is None or str(form) != text:
+        raise InvalidText(text)
+    return form
 
 
 def check_form(value):

@@ -5,11 +5,9 @@ or None and a letter. Origins are listed as pairs (facts, origin): with these
 facts the position has this origin.
 """
 
-from blockmoves.forms import Form, form_of
+from blockmoves.forms import MIDDLE, Form, form_of
 from blockmoves.plans import stretches_in
 from blockmoves.statements import Copy, Fill, Resize, Reverse
-
-MIDDLE = "@"
 
 
 def view_origins(stretches, course):
@@ -37,10 +35,15 @@ def piece_origins(pieces, before):
     return _with_facts(_inside(_sum_of(lengths), at), found)
 
 
-def meetings(first, second):
-    """The facts of each meeting of origins of one position."""
-    return [facts + others + further for facts, origin in first for others, other in second
-            for further in _differences(origin, other)]
+def differences(origin, other):
+    """The facts with which two origins can differ, one tuple for each meeting."""
+    name, place = origin
+    other_name, other_place = other
+    if name is None and other_name is None:
+        return [] if place == other_place else [()]
+    if name != other_name or place.factor(MIDDLE) != other_place.factor(MIDDLE):
+        return [()]
+    return [((place - other_place, True),), ((other_place - place, True),)]
 
 
 def piece_length(piece):
@@ -163,7 +166,7 @@ def _before_swap(statement, forms, array, at):
     outside = [()]
     if statement.first == array:
         found.append((_within_block(one, amount, at), (statement.second, at - one + other)))
-        outside = _outside_block(one, amount, at)
+        outside = _beside_block(one, amount, at)
     for facts in outside:
         found.extend(_with_facts(facts, _through_block(
             statement.second, other, amount, array, at, (statement.first, at - other + one))))
@@ -174,7 +177,7 @@ def _through_block(written, start, amount, array, at, origin):
     """The three ways of a block that was written; `origin` is that of a cell within it."""
     if written != array:
         return [((), (array, at))]
-    front, behind = _outside_block(start, amount, at)
+    front, behind = _beside_block(start, amount, at)
     return [(front, (array, at)), (_within_block(start, amount, at), origin), (behind, (array, at))]
 
 
@@ -182,16 +185,5 @@ def _within_block(start, amount, at):
     return (at - start, True), (start + amount - at, True)
 
 
-def _outside_block(start, amount, at):
+def _beside_block(start, amount, at):
     return [((start - at, True),), ((at - start - amount, True),)]
-
-
-def _differences(origin, other):
-    """The facts with which two origins can differ, one tuple for each meeting."""
-    name, place = origin
-    other_name, other_place = other
-    if name is None and other_name is None:
-        return [] if place == other_place else [()]
-    if name != other_name or place.factor(MIDDLE) != other_place.factor(MIDDLE):
-        return [()]
-    return [((place - other_place, True),), ((other_place - place, True),)]

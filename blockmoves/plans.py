@@ -1,4 +1,4 @@
-"""Tuples of facts put together from the ways of conditions, step by step.
+"""Plans of facts that are put together from the ways of conditions, step by step.
 
 A *plan* is a list of steps, and a step a list of ways, one of which is taken.
 A table has the present form of each symbol, and lengths the present length of
@@ -6,44 +6,7 @@ each array.
 """
 
 from blockmoves.conditions import All, Upto
-from blockmoves.corners import Corner
 from blockmoves.forms import Form, form_of, put_in
-
-
-class Path:
-    """The facts of the ways that were taken so far.
-
-    With a corner, a path ends where its facts have no values. Without one
-    nobody asks whether they have any.
-    """
-
-    def __init__(self, facts, corner):
-        self.facts = facts
-        self.corner = corner
-
-    def onward(self, ways):
-        """The paths that go on by one of the ways."""
-        if self.corner is None:
-            return [Path(self.facts + way, None) for way in ways]
-        paths = [Path(self.facts + way, self.corner.joined(way)) for way in ways]
-        return [path for path in paths if path.corner.refutation is None]
-
-
-def open_path():
-    """The path without facts, on which nobody asks for values."""
-    return Path((), None)
-
-
-def searching_path(symbols):
-    """The path without facts that looks for values of these symbols."""
-    return Path((), Corner(symbols))
-
-
-def paths_along(paths, plan):
-    """The paths that go on from these ones by one way of each step."""
-    for ways in plan:
-        paths = [path for before in paths for path in before.onward(ways)]
-    return paths
 
 
 def own_table(symbols):

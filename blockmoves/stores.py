@@ -3,8 +3,9 @@
 from blockmoves.containers import check_container
 from blockmoves.errors import NotAllowed, NotAnOperation, NotAStore, NothingToUndo, NoView, UnknownName
 from blockmoves.forms import worth_of
+from blockmoves.machines import has_buffers
 from blockmoves.operations import check_operation
-from blockmoves.runs import check_inputs, check_values, has_buffers, outcome_of, seen_in
+from blockmoves.runs import check_inputs, check_values, outcome_of, seen_in
 
 
 class Store:

@@ -1,15 +1,17 @@
 """The paths that lead to something that must not be (points 17, 20, 21 and 22 of the document).
 
 Each generator is passed the path with which it begins: an open one for all
-demands, a searching one for those that have values.
+demands, a search for those that have values, a proof for those that are not
+refuted.
 """
 
 from blockmoves.conditions import Same, Upto
 from blockmoves.courses import Tour, Walk, beginnings, first_course, whole_walks
 from blockmoves.forms import Form
-from blockmoves.origins import meetings, piece_origins, pieces_length, present_stretches
+from blockmoves.origins import differences, piece_origins, pieces_length, present_stretches
 from blockmoves.origins import row_origins, view_length, view_origins
-from blockmoves.plans import case_plan, chosen_plan, failing_plans, missing_plans, paths_along
+from blockmoves.paths import paths_along
+from blockmoves.plans import case_plan, chosen_plan, failing_plans, missing_plans
 from blockmoves.plans import stretch_condition, ways_in
 
 
@@ -31,7 +33,7 @@ def difference_paths(first, second, by, path):
         yield "first", stop
     for walk in walks:
         other_tour = Tour()
-        twins = other_tour.through(second.body, 0, [Walk(walk.path, walk.case, first_course(second))])
+        twins = _twins_of(walk, second, other_tour)
         for _, _, stop in other_tour.stopped:
             yield "second", stop
         for twin in twins:
@@ -39,20 +41,44 @@ def difference_paths(first, second, by, path):
                 yield kind, end
 
 
-def breaking_paths(operation, held, broken, path):
-    """Yields the paths through whole walks on which conditions hold before and one does not afterwards."""
+def breaking_paths(operation, condition, path):
+    """Yields the paths through whole walks on which the condition holds before and not afterwards."""
     for walk in whole_walks(operation, path):
-        own = first_course(operation).present
-        plan = [ways_in(condition, True, own) for condition in held] + [ways_in(broken, False, walk.course.present)]
+        plan = [condition.listing(True), ways_in(condition, False, walk.course.present)]
         for end in paths_along([walk.path], plan):
             yield end
 
 
 def dear_paths(operation, potential, form, fraction, path):
     """Yields the paths through whole walks on which the spread cost is more than the fraction of the form."""
+    over, under = fraction
+    for end, spread in spread_ends(operation, potential, path):
+        for dear in end.onward([((spread * under - form * over, True),)]):
+            yield dear
+
+
+def spread_ends(operation, potential, path):
+    """The pairs of a path through a whole walk and the form of the spread cost on it."""
+    found = []
     for walk in whole_walks(operation, path):
-        for end in _dear_ends(operation, walk, potential, form, fraction):
-            yield end
+        own, present = first_course(operation).present, walk.course.present
+        for before in range(len(potential)):
+            for after in range(len(potential)):
+                plan = chosen_plan(potential, before, own) + chosen_plan(potential, after, present)
+                spread = walk.course.cost + walk.course.now(potential[after][1]) - potential[before][1]
+                found.extend([(end, spread) for end in paths_along([walk.path], plan)])
+    return found
+
+
+def joint_walks(first, second, path):
+    """The pairs of the course behind the first body and the walk that goes on behind the second one."""
+    walks = Tour().through(first.body, 0, beginnings(first, [first.premise, second.premise], path))
+    return [(walk.course, twin) for walk in walks for twin in _twins_of(walk, second, Tour())]
+
+
+def _twins_of(walk, second, tour):
+    """The walks that go on by the second body from the same beginning."""
+    return tour.through(second.body, 0, [Walk(walk.path, walk.case, first_course(second))])
 
 
 def _named(kind, paths):
@@ -110,21 +136,36 @@ def _view_ends(operation, walk, case):
     paths = paths_along([walk.path], plan + _met_plan(_piece_conditions(operation.view, walk)))
     stretches = present_stretches(case, walk.course)
     same = Same(view_length(stretches), pieces_length(operation.view))
-    met = meetings(view_origins(stretches, walk.course), piece_origins(operation.view, _before_of(walk)))
-    return _unequal_ends(paths, same, met, "length", "cell")
+    origins = view_origins(stretches, walk.course), piece_origins(operation.view, _before_of(walk))
+    return _unequal_ends(paths, same, origins, "length", "cell")
 
 
 def _result_ends(walk, name, length, pieces):
     """Where an output is not that of its pieces."""
     paths = paths_along([walk.path], _met_plan(_piece_conditions(pieces, walk)))
-    met = meetings(row_origins(name, length, walk.course), piece_origins(pieces, _before_of(walk)))
-    return _unequal_ends(paths, Same(length, pieces_length(pieces)), met, "result", "result")
+    origins = row_origins(name, length, walk.course), piece_origins(pieces, _before_of(walk))
+    return _unequal_ends(paths, Same(length, pieces_length(pieces)), origins, "result", "result")
 
 
-def _unequal_ends(paths, same, met, length_kind, cell_kind):
-    """The paths on which two lengths differ, and those on which they are the same and a cell differs."""
+def _unequal_ends(paths, same, origins, length_kind, cell_kind):
+    """The paths on which two lengths differ, and those on which they are the same and a cell differs.
+
+    `origins` are those of the position `@` in both.
+    """
     found = _named(length_kind, paths_along(paths, [same.listing(False)]))
-    return found + _named(cell_kind, paths_along(paths, [same.listing(True), met]))
+    return found + _named(cell_kind, _meeting_ends(paths_along(paths, [same.listing(True)]), origins))
+
+
+def _meeting_ends(paths, origins):
+    """The paths that go on to a meeting of the origins of one position (point 18)."""
+    first, second = origins
+    found = []
+    for facts, origin in first:
+        there = paths_along(paths, [[facts]])
+        if there:
+            ways = [others + further for others, other in second for further in differences(origin, other)]
+            found.extend(paths_along(there, [ways]))
+    return found
 
 
 def _differences_of(course, twin, by):
@@ -134,8 +175,8 @@ def _differences_of(course, twin, by):
     else:
         found = _cell_differences(course, twin)
     for name, length in course.operation.outputs:
-        met = meetings(row_origins(name, length, course), row_origins(name, length, twin.course))
-        found.extend(_named("result", twin.path.onward(met)))
+        origins = row_origins(name, length, course), row_origins(name, length, twin.course)
+        found.extend(_named("result", _meeting_ends([twin.path], origins)))
     return found
 
 
@@ -147,8 +188,9 @@ def _cell_differences(course, twin):
         found.extend(_named("field", twin.path.onward(same.listing(False))))
     for array, _ in container.arrays:
         first, second = course.lengths[array], twin.course.lengths[array]
-        met = meetings(row_origins(array, first, course), row_origins(array, second, twin.course))
-        found.extend(_named("array", paths_along([twin.path], [Same(first, second).listing(True), met])))
+        paths = twin.path.onward(Same(first, second).listing(True))
+        origins = row_origins(array, first, course), row_origins(array, second, twin.course)
+        found.extend(_named("array", _meeting_ends(paths, origins)))
     return found
 
 
@@ -166,18 +208,6 @@ def _case_differences(course, case, twin, other):
     plan = case_plan(cases, case, course.present, course.lengths)
     plan = plan + case_plan(cases, other, twin.course.present, twin.course.lengths)
     first, second = present_stretches(case, course), present_stretches(other, twin.course)
-    met = meetings(view_origins(first, course), view_origins(second, twin.course))
+    origins = view_origins(first, course), view_origins(second, twin.course)
     same = Same(view_length(first), view_length(second))
-    return _unequal_ends(paths_along([twin.path], plan), same, met, "length", "cell")
-
-
-def _dear_ends(operation, walk, potential, form, fraction):
-    over, under = fraction
-    own = first_course(operation).present
-    found = []
-    for before in range(len(potential)):
-        for after in range(len(potential)):
-            plan = chosen_plan(potential, before, own) + chosen_plan(potential, after, walk.course.present)
-            spread = walk.course.cost + walk.course.now(potential[after][1]) - potential[before][1]
-            found.extend(paths_along([walk.path], plan + [[((spread * under - form * over, True),)]]))
-    return found
+    return _unequal_ends(paths_along([twin.path], plan), same, origins, "length", "cell")

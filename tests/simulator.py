@@ -195,9 +195,9 @@ def call_parts(operation, fields, values):
         return None
     if any(worth(length, table) < 0 for _, length in operation.inputs + operation.outputs):
         return None
-    cells = tuple(tuple(1000 * (number + 1) + at for at in range(table[length]))
+    cells = tuple(tuple(10**6 * (number + 1) + at for at in range(table[length]))
                   for number, (_, length) in enumerate(container.arrays))
-    inputs = tuple(tuple(1000 * (number + 7) + at for at in range(worth(length, table)))
+    inputs = tuple(tuple(10**6 * (number + 7) + at for at in range(worth(length, table)))
                    for number, (_, length) in enumerate(operation.inputs))
     return None if seen(container, fields, cells) is None else (cells, inputs)
 

@@ -1,7 +1,9 @@
 import inspect
 import unittest
 
-from blockmoves import catalog, cones, conditions, containers, demands, forms, operations, runs, statements, stores
+from blockmoves import (
+    alike, catalog, certificates, checker, cones, conditions, containers, costs, demands, forms, judging, keeping, operations, rows,
+    runs, statements, stores, workshops)
 
 
 class ExamplesTest(unittest.TestCase):
@@ -41,6 +43,18 @@ class PlacesTest(unittest.TestCase):
             (demands, "demands_of", ["operation"]), (demands, "demands_of_both", ["first", "second", "by"]),
             (demands, "demands_of_kept", ["operation", "condition"]), (demands, "demands_of_container", ["container"]),
             (demands, "demands_of_bound", ["operation", "potential", "form", "fraction"]),
+            (judging, "is_right", ["operation"]), (judging, "problems", ["operation"]), (judging, "reached", ["operation"]),
+            (judging, "enough", ["operation"]), (judging, "needless", ["operation"]),
+            (alike, "alike", ["first", "second", "by"]), (alike, "find_difference", ["first", "second", "by"]),
+            (keeping, "is_kept", ["operation", "condition"]), (keeping, "find_broken", ["operation", "condition"]),
+            (keeping, "kept_part", ["container", "operations", "conditions"]),
+            (keeping, "least_premises", ["operation", "conditions"]), (costs, "worst", ["operation", "form", "potential", "near"]),
+            (costs, "worst_beside", ["first", "second", "near"]), (rows, "row_of", ["moves", "premise"]),
+            (rows, "ring_of", ["moves", "premise"]), (checker, "holds", ["claim", "certificate"]),
+            (certificates, "certify", ["operation"]), (certificates, "certify_alike", ["first", "second", "by"]),
+            (certificates, "certify_kept", ["operation", "condition"]),
+            (certificates, "certify_bound", ["operation", "potential", "form", "fraction"]),
+            (certificates, "certify_sound", ["container"]),
             (catalog, "ring", []), (catalog, "ring_push", []), (catalog, "ring_pop", []), (catalog, "ring_turn", []),
             (catalog, "stack", []), (catalog, "stack_push", []), (catalog, "stack_drop", []),
         ]:
@@ -79,6 +93,10 @@ class PlacesTest(unittest.TestCase):
                 "undo": ["self"], "cells": ["self", "array"], "shown": ["self"], "__len__": ["self"], "__repr__": ["self"],
                 "__eq__": None}),
             (stores, "Trial", {"__init__": ["self", "store"], "__enter__": ["self"], "__exit__": None}),
+            (workshops, "Workshop", {
+                "__init__": ["self", "container"], "do": ["self", "edit"], "do_all": ["self", "edits", "watch"], "undo": ["self"],
+                "operation": ["self", "name"], "limit_of": ["self", "name"], "__len__": ["self"], "__contains__": None,
+                "__iter__": ["self"], "__eq__": None, "__repr__": ["self"]}),
             (containers, "Container", {
                 "__init__": ["self", "arrays", "fields", "parameters", "premise", "begin", "invariant", "cases"],
                 "read": ["text"], "__eq__": None, "__str__": None, "__repr__": None}),
@@ -108,9 +126,17 @@ class PlacesTest(unittest.TestCase):
             self.assertEqual(getattr(statements, name).__bases__, (statements.Copy,))
 
     def test_named_alone(self):
-        parameters = inspect.signature(operations.Operation).parameters
-        named = [name for name, one in parameters.items() if one.kind is one.KEYWORD_ONLY]
-        self.assertEqual(named, ["sizes", "inputs", "outputs", "premise", "body", "view", "results"])
+        for function, expected in [
+            (operations.Operation, ["sizes", "inputs", "outputs", "premise", "body", "view", "results"]), (alike.alike, ["by"]),
+            (alike.find_difference, ["by"]), (certificates.certify_alike, ["by"]), (demands.demands_of_both, ["by"]),
+            (costs.worst, ["potential", "near"]), (costs.worst_beside, ["near"]), (workshops.Workshop.do_all, ["watch"]),
+            (judging.problems, []), (keeping.kept_part, []), (certificates.certify_bound, []), (rows.row_of, []),
+        ]:
+            parameters = inspect.signature(function).parameters
+            named = [name for name, one in parameters.items() if one.kind is one.KEYWORD_ONLY]
+            self.assertEqual(named, expected)
+        self.assertEqual(inspect.signature(costs.worst).parameters["near"].default, 100)
+        self.assertEqual(inspect.signature(alike.alike).parameters["by"].default, "view")
 
 
 if __name__ == "__main__":
