@@ -235,6 +235,13 @@ class ExamplesTest(unittest.TestCase):
             self.assertIs(holds(claim, (("cap", 2), ("len", 1))), expected)
             self.assertIs(holds(claim, (("cap", 2), ("len", 2))), False)
             self.assertIs(holds(claim, (("cap", 2), ("len", 3))), False)
+        # Both calls have to be allowed.
+        twos = made(stack(), "fill buf[0] (len) 2", head="", premise="len < cap")
+        for left, right in ((one, twos), (twos, one)):
+            for by in ("view", "cells"):
+                claim = ("unlike", str(stack()), str(left), str(right), by)
+                self.assertIs(holds(claim, (("cap", 2), ("len", 2))), False)
+                self.assertIs(holds(claim, (("cap", 2), ("len", 1))), True)
         stops = made(stack(), "reverse buf[0] (2*len)", head="")
         for by in ("view", "cells"):
             self.assertIs(holds(("unlike", str(stack()), str(one), str(stops), by), (("cap", 1), ("len", 1))), True)

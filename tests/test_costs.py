@@ -212,6 +212,8 @@ class BesideTest(Ratios):
         self.assertEqual(self.beside(stack_push(), twice), (2, False))
         self.assertEqual(self.beside(twice, stack_push()), (1, True))
         self.assertEqual(worst_beside(second=twice, first=stack_push(), near=7), worst_beside(stack_push(), twice, near=7))
+        self.assertEqual(worst_beside(stack_push(), twice), worst_beside(stack_push(), twice, near=100))
+        self.assertNotEqual(worst_beside(stack_push(), twice), worst_beside(stack_push(), twice, near=101))
         fraction, reached, values = worst_beside(made(ROW, "fill x[0] (k) 1", premise="k < n"), made(ROW, "fill x[0] (n) 1"),
                                                  near=10 ** 9)
         self.assertEqual((fraction, reached), ((1, 1), False))
